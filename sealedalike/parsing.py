@@ -1,6 +1,19 @@
-"""Things from their texts."""
+"""Things and numbers from their texts."""
 
-from sealedalike.things import is_name, is_word
+from sealedalike.things import DIGITS, is_name, is_word
+
+
+def number_in(word):
+    """The integer from 0 on that Python writes as this word; None if there is none."""
+    if word == "" or not all([sign in DIGITS for sign in word]):
+        return None
+    if word[0] == "0" and len(word) > 1:
+        return None
+    number = 0
+    # `int` refuses words that are much longer than those that the document speaks of.
+    for sign in word:
+        number = 10 * number + int(sign)
+    return number
 
 
 def thing_with_text(counts, text):

@@ -25,13 +25,17 @@ def is_name(thing):
     return thing[0] in CAPITALS and all([sign in LETTERS or sign in DIGITS for sign in thing[1:]])
 
 
-def all_pieces(thing):
-    """The list of the pieces, each as often as it stands there, parts behind what they are parts of."""
-    pieces = [thing]
+def all_pieces(things):
+    """The list of the pieces of things, each as often as it stands there: the things, then all parts.
+
+    The parts of a piece stand side by side, and in the order of the pieces that they are parts of.
+    """
+    pieces = list(things)
     at = 0
     while at < len(pieces):
-        if isinstance(pieces[at], tuple):
-            pieces.extend(pieces[at][1:])
+        piece = pieces[at]
+        if isinstance(piece, tuple):
+            pieces.extend(piece[1:])
         at += 1
     return pieces
 
@@ -50,36 +54,46 @@ def all_texts(pieces):
     return texts
 
 
+def ascending(things, texts):
+    """The tuple of the things with these texts, by their texts, each once."""
+    by_text = dict(zip(texts, things))
+    return tuple([by_text[text] for text in sorted(by_text)])
+
+
 def text_of(thing):
     """The text of a thing."""
-    return all_texts(all_pieces(thing))[0]
+    return all_texts(all_pieces([thing]))[0]
+
+
+def texts_of(things):
+    """The list of the texts of things."""
+    return all_texts(all_pieces(things))[:len(things)]
 
 
 def pieces_of(thing):
     """The tuple of the pieces of a thing, each once, by their texts."""
-    pieces = all_pieces(thing)
-    by_text = dict(zip(all_texts(pieces), pieces))
-    return tuple([by_text[text] for text in sorted(by_text)])
+    pieces = all_pieces([thing])
+    return ascending(pieces, all_texts(pieces))
 
 
 def size_of(thing):
     """How many pieces a thing has, each as often as it stands in it."""
-    return len(all_pieces(thing))
+    return len(all_pieces([thing]))
 
 
 def names_in(thing):
     """The ascending tuple of the names in a thing."""
-    return tuple(sorted({piece for piece in all_pieces(thing) if is_name(piece)}))
+    return tuple(sorted({piece for piece in all_pieces([thing]) if is_name(piece)}))
 
 
 def words_in(thing):
     """The ascending tuple of the words that are pieces of a thing."""
-    return tuple(sorted({piece for piece in all_pieces(thing) if is_word(piece)}))
+    return tuple(sorted({piece for piece in all_pieces([thing]) if is_word(piece)}))
 
 
-def replaced(thing, name, other):
-    """The thing with another one in the place of a name, everywhere."""
-    pieces = all_pieces(thing)
+def exchanged(thing, others):
+    """The thing with other things, told by a dict, in the places of names, everywhere and all at once."""
+    pieces = all_pieces([thing])
     made = list(pieces)
     end = len(pieces)
     for at in reversed(range(len(pieces))):
@@ -88,6 +102,11 @@ def replaced(thing, name, other):
             begin = end - len(piece) + 1
             made[at] = (piece[0], *made[begin:end])
             end = begin
-        elif piece == name:
-            made[at] = other
+        else:
+            made[at] = others.get(piece, piece)
     return made[0]
+
+
+def replaced(thing, name, other):
+    """The thing with another one in the place of a name, everywhere."""
+    return exchanged(thing, {name: other})

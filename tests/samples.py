@@ -4,6 +4,7 @@ import random
 
 from sealedalike.books import Book, standard_book
 from sealedalike.errors import BadThing, NothingToUndo, SealError
+from sealedalike.rows import Row
 
 STD = standard_book()
 STD_TEXT = """kind half 1
@@ -31,6 +32,15 @@ AWKWARD = Book(
     ),
 )
 
+ROW = Row(STD, (("lock", ("pair", "a", "N"), "K"), ("seal", "K", ("half", "S")), "S"))
+# A recipe for ROW that comes to N.
+GOOD = (
+    ("shown", 0), ("shown", 1), ("shown", 2), ("open", "unseal", (1, 2)), ("open", "open", (0, 3)),
+    ("open", "second", (4,)),
+)
+# Each key is locked within another one of the locks.
+RING = Row(STD, (("lock", ("pair", "B", "C"), "A"), ("lock", "C", "B"), ("lock", "A", "C")))
+
 
 def nested(times, inner, wrap):
     """What comes of wrapping a value so many times."""
@@ -52,11 +62,33 @@ def odd_values():
         ("A", "a"), ("", "a"), ("a" * 9, "a"), ("nokind", "a"), ("half", 1), ("half", None), ("half", ["half", "a"]),
         ("half", ("half", ("half", True))), ("half", ""), ("half", "a b"), ("half", STD), ("half",),
         ("half", "a", "b"), ("lock", "a"), ("lock", "a", "K", "K"), ("lock", "a", ["K"]), ["lock", "a", "K"],
-        STD, AWKWARD, SealError(), BadThing(["a"]), NothingToUndo(),
+        STD, AWKWARD, ROW, (ROW,), ("half", ROW), SealError(), BadThing(["a"]), NothingToUndo(),
         nested(40, "a", lambda inner: [inner]), nested(40, "a", lambda inner: (inner,)),
         nested(40, "a", lambda inner: {"half": inner}), nested(40, [], lambda inner: ("half", inner)),
         nested(13, "A b", lambda inner: ("pair", inner, inner)), ("half", *["a"] * 19000), ("half", ["a"] * 19000),
     ]
+
+
+def some_book(chance):
+    """A book with short words, some of which begin alike."""
+    words = sorted({"".join(chance.choice("abkn") for _ in range(chance.randint(1, 3))) for _ in range(12)})
+    chosen = chance.sample(words, min(len(words), 9))
+    kinds = tuple(sorted((word, chance.randint(1, 3)) for word in chosen[:4]))
+    single = [kind for kind, many in kinds if many == 1]
+
+    def need(many):
+        number = chance.randrange(many)
+        needs = [("part", number)]
+        if single:
+            needs += [("around", chance.choice(single), number), ("inside", number, chance.choice(single))]
+        return chance.choice(needs)
+
+    openings = []
+    for word in sorted(chosen[4:]):
+        kind, many = chance.choice(kinds)
+        needs = tuple(need(many) for _ in range(chance.randrange(3)))
+        openings.append((word, kind, chance.randrange(many), needs))
+    return Book(kinds, tuple(openings))
 
 
 def some_things(book, many, seed):
@@ -71,3 +103,44 @@ def some_things(book, many, seed):
         return (kind, *[grown(depth - 1) for _ in range(count)])
 
     return [grown(chance.randrange(5)) for _ in range(many)]
+
+
+def some_row(book, chance, most=4):
+    """A row of a few small things, with few names, so that some of them are keys of others."""
+
+    def grown(depth):
+        if depth == 0 or chance.random() < 0.35:
+            return chance.choice(["a", "K", "L", "N", "S"])
+        kind, count = chance.choice(book.kinds)
+        return (kind, *[grown(depth - 1) for _ in range(count)])
+
+    return Row(book, tuple(grown(chance.randrange(4)) for _ in range(chance.randrange(most + 1))))
+
+
+def some_rows(many, seed):
+    """Rows over the standard book and others, the same ones for the same seed."""
+    chance = random.Random(seed)
+    books = [STD, None, AWKWARD, None]
+    return [some_row(books[at % 4] or some_book(chance), chance) for at in range(many)]
+
+
+def asked_things(row):
+    """Things of the book of a row, some of which may be had."""
+    kind, count = row.book.kinds[0]
+    other, many = row.book.kinds[-1]
+    pieces = [*row.pieces, "K", "Q", "z"]
+    made = [(kind, *[piece] * count) for piece in pieces[:4]] + [(other, *pieces[-many:])]
+    return list(dict.fromkeys([*pieces, *made]))
+
+
+def some_recipe(row, chance, many):
+    """A recipe of so many steps, many of which fail or are needless."""
+    steps = []
+    for at in range(many):
+        steps.append(chance.choice([("shown", chance.randrange(len(row))) if len(row) else ("word", "b"), ("word", "a")]))
+        named = [("make", kind, count) for kind, count in row.book.kinds]
+        named += [("open", told[0], 1 + len(told[3])) for told in row.book.openings] * 3
+        if at > 0 and chance.random() < 0.75:
+            word, name, count = chance.choice(named)
+            steps[at] = (word, name, tuple(chance.randrange(at) for _ in range(count)))
+    return tuple(steps)

@@ -3,7 +3,7 @@ import unittest
 
 from sealedalike.books import Book, standard_book
 from sealedalike.errors import BadText
-from tests.samples import AWKWARD, STD, STD_TEXT, odd_values
+from tests.samples import AWKWARD, STD, STD_TEXT, odd_values, some_book
 
 AWKWARD_TEXT = """kind around 1
 kind h 1
@@ -16,27 +16,6 @@ opening b inside 1 part 1 part 1
 opening c opening 0 around around 2 inside 1 around
 opening d part 0 inside 0 h
 opening e h 0"""
-
-
-def some_book(chance):
-    words = sorted({"".join(chance.choice("abkn") for _ in range(chance.randint(1, 3))) for _ in range(12)})
-    chosen = chance.sample(words, min(len(words), 9))
-    kinds = tuple(sorted((word, chance.randint(1, 3)) for word in chosen[:4]))
-    single = [kind for kind, many in kinds if many == 1]
-
-    def need(many):
-        number = chance.randrange(many)
-        needs = [("part", number)]
-        if single:
-            needs += [("around", chance.choice(single), number), ("inside", number, chance.choice(single))]
-        return chance.choice(needs)
-
-    openings = []
-    for word in sorted(chosen[4:]):
-        kind, many = chance.choice(kinds)
-        needs = tuple(need(many) for _ in range(chance.randrange(3)))
-        openings.append((word, kind, chance.randrange(many), needs))
-    return Book(kinds, tuple(openings))
 
 
 class Texts(unittest.TestCase):

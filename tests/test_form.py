@@ -30,6 +30,24 @@ INTERFACE = {
         },
         "standard_book": (),
     },
+    "rows": {
+        "Row": {
+            "__init__": ("self", "book", "things"), "__len__": ("self",), "__iter__": ("self",),
+            "__add__": ("self", "other"), "with_thing": ("self", "thing"), "only": ("self", "places"),
+            "replaced": ("self", "name", "thing"), "renamed": ("self", "pairs"), "__str__": ("self",),
+            "__eq__": ("self", "other"), "read": ("cls", "book", "text"),
+        },
+    },
+    "recipes": {
+        "is_recipe": ("row", "thing"), "value_of": ("row", "recipe"), "written_size": ("recipe",),
+        "recipe_text": ("recipe",), "read_recipe": ("text",),
+    },
+    "having": {
+        "got_things": ("row",), "basis": ("row",), "is_had": ("row", "thing"), "judge": ("row", "thing"),
+        "recipe_for": ("row", "thing"), "least_size": ("row", "thing"), "judge_holds": ("row", "about", "thing"),
+        "had_pieces": ("row",), "has_all": ("row", "other"),
+    },
+    "counting": {"how_many": ("row", "words", "size"), "things_of": ("row", "words", "size")},
 }
 
 BUILTINS = set(
@@ -86,6 +104,8 @@ class Form(unittest.TestCase):
                 for alias in node.names:
                     self.assertIsNone(alias.asname)
                     self.assertNotEqual(alias.name, "*")
+                    # Not beside a class that is iterated over and has a length.
+                    self.assertNotIn(alias.name, ("product", "combinations", "permutations"))
                     if node.module not in LIBRARY:
                         imported = importlib.import_module(node.module)
                         value = getattr(imported, alias.name)
