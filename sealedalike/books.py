@@ -2,7 +2,7 @@
 
 from sealedalike.errors import BadBook, BadText, BadThing
 from sealedalike.parsing import thing_with_text
-from sealedalike.things import is_name, is_word
+from sealedalike.things import ascends, is_name, is_word
 
 STANDARD_KINDS = (("half", 1), ("lock", 2), ("mark", 1), ("pair", 2), ("seal", 2), ("sign", 2))
 STANDARD_OPENINGS = (
@@ -92,14 +92,10 @@ def _is_integer(value, low, high):
     return isinstance(value, int) and not isinstance(value, bool) and low <= value <= high
 
 
-def _ascends(words):
-    return all([left < right for left, right in zip(words, words[1:])])
-
-
 def _are_kinds(kinds):
     if not isinstance(kinds, tuple) or len(kinds) == 0:
         return False
-    return all([_is_kind(kind) for kind in kinds]) and _ascends([kind[0] for kind in kinds])
+    return all([_is_kind(kind) for kind in kinds]) and ascends([kind[0] for kind in kinds])
 
 
 def _is_kind(kind):
@@ -112,7 +108,7 @@ def _are_openings(counts, openings):
     if not isinstance(openings, tuple):
         return False
     right = all([_is_opening(counts, opening) for opening in openings])
-    return right and _ascends([opening[0] for opening in openings])
+    return right and ascends([opening[0] for opening in openings])
 
 
 def _is_opening(counts, opening):

@@ -5,7 +5,7 @@ from sealedalike.least import least_recipe
 from sealedalike.numbering import Table
 from sealedalike.onlooker import Making, Onlooker
 from sealedalike.recipes import is_recipe, values_in, written_size
-from sealedalike.things import ascending, texts_of
+from sealedalike.things import ascending, ascends, texts_of
 
 
 def got_things(row):
@@ -88,8 +88,7 @@ def _is_ascending(book, things):
     """Whether any value is an ascending tuple of things of a book."""
     if not isinstance(things, tuple) or not all([book.is_thing(thing) for thing in things]):
         return False
-    texts = texts_of(things)
-    return all([left < right for left, right in zip(texts, texts[1:])])
+    return ascends(texts_of(things))
 
 
 def _is_closed(row, things, about):

@@ -6,12 +6,10 @@ row are opened, and all that is made is a piece of the row, of what is needed, o
 
 from heapq import heappop, heappush
 
-from sealedalike.things import is_word
-
 
 def least_recipe(onlooker, goal):
     """A recipe with the least written-out size for the thing with this number, which can be had."""
-    rules = _rules(onlooker)
+    rules = onlooker.rules()
     chosen, sizes = _least_rules(rules, len(onlooker.table.things))
     used = {}
     left = [goal]
@@ -28,21 +26,6 @@ def least_recipe(onlooker, goal):
         places[number] = len(steps)
         steps.append((*words, tuple([places[part] for part in named])) if named else words)
     return tuple(steps)
-
-
-def _rules(onlooker):
-    """What steps may come to: (number of the thing, first words of the step, numbers of the things it names)."""
-    table = onlooker.table
-    rules = [(number, ("shown", at), ()) for at, number in enumerate(onlooker.shown)]
-    for number, thing in enumerate(table.things):
-        if is_word(thing):
-            rules.append((number, ("word", thing), ()))
-        elif table.parts[number]:
-            rules.append((number, ("make", table.kinds[number]), table.parts[number]))
-    for number, chances in enumerate(onlooker.chances):
-        for word, needed, given in chances:
-            rules.append((given, ("open", word), (number, *needed)))
-    return rules
 
 
 def _least_rules(rules, many):

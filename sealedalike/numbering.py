@@ -13,7 +13,7 @@ class Table:
         self.numbers = {}
 
     def leaf(self, leaf):
-        """The number of a word or name."""
+        """The number of a thing without parts."""
         if leaf not in self.numbers:
             self._keep(leaf, leaf, None, ())
         return self.numbers[leaf]

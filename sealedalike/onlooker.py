@@ -80,3 +80,17 @@ class Onlooker:
         """Whether a got thing is basic."""
         parts = self.table.parts[number]
         return not self.making.all_made(parts) if parts else is_name(self.table.things[number])
+
+    def rules(self):
+        """What steps may come to: (number of the thing, first words of the step, numbers of the things it names)."""
+        table = self.table
+        rules = [(number, ("shown", at), ()) for at, number in enumerate(self.shown)]
+        for number, thing in enumerate(table.things):
+            if is_word(thing):
+                rules.append((number, ("word", thing), ()))
+            elif table.parts[number]:
+                rules.append((number, ("make", table.kinds[number]), table.parts[number]))
+        for number, chances in enumerate(self.chances):
+            for word, needed, given in chances:
+                rules.append((given, ("open", word), (number, *needed)))
+        return rules

@@ -1,5 +1,6 @@
 """Recipes: step by step, what anybody can make of the things of a row."""
 
+from sealedalike.course import Course
 from sealedalike.errors import BadText
 from sealedalike.numbering import Table
 from sealedalike.parsing import number_in
@@ -29,7 +30,7 @@ def written_size(recipe):
     """The written-out size of a recipe."""
     sizes = []
     for step in recipe:
-        sizes.append(1 + sum([sizes[number] for number in _numbers_in(step)]))
+        sizes.append(1 + sum([sizes[number] for number in named_in(step)]))
     return sizes[-1]
 
 
@@ -53,32 +54,15 @@ def read_recipe(text):
 
 def values_in(table, row, recipe):
     """The numbers, in a table, of the things to which the steps come, None for those that fail."""
-    shown = table.numbers_of(row.things)
-    openings = {opening[0]: opening for opening in row.book.openings}
-    values = []
+    course = Course(table, row)
     for step in recipe:
-        if step[0] == "shown":
-            values.append(shown[step[1]])
-        elif step[0] == "word":
-            values.append(table.leaf(step[1]))
-        else:
-            handed = [values[number] for number in step[2]]
-            if None in handed:
-                values.append(None)
-            elif step[0] == "make":
-                values.append(table.whole(step[1], handed))
-            else:
-                values.append(_given(table, openings[step[1]], handed))
-    return values
+        course.take(step)
+    return course.came
 
 
-def _given(table, opening, handed):
-    """The number of the part that an opening gives, None if it fails."""
-    _, kind, given, needs = opening
-    thing = handed[0]
-    if table.kinds[thing] != kind or table.needed_at(needs, thing) != handed[1:]:
-        return None
-    return table.parts[thing][given]
+def named_in(step):
+    """The numbers of the steps that a step names."""
+    return step[2] if len(step) == 3 else ()
 
 
 def _is_index(value, many):
@@ -103,13 +87,8 @@ def _is_step(wanted, shown, at, step):
     return all([_is_index(number, at) for number in numbers])
 
 
-def _numbers_in(step):
-    """The numbers of the steps that a step names."""
-    return step[2] if len(step) == 3 else ()
-
-
 def _step_text(step):
-    return " ".join([str(word) for word in (*step[:2], *_numbers_in(step))])
+    return " ".join([str(word) for word in (*step[:2], *named_in(step))])
 
 
 def _step_in(words, at):

@@ -60,6 +60,11 @@ def ascending(things, texts):
     return tuple([by_text[text] for text in sorted(by_text)])
 
 
+def ascends(texts):
+    """Whether strings ascend, none of them twice."""
+    return all([left < right for left, right in zip(texts, texts[1:])])
+
+
 def text_of(thing):
     """The text of a thing."""
     return all_texts(all_pieces([thing]))[0]

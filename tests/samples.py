@@ -144,3 +144,34 @@ def some_recipe(row, chance, many):
             word, name, count = chance.choice(named)
             steps[at] = (word, name, tuple(chance.randrange(at) for _ in range(count)))
     return tuple(steps)
+
+
+def changed_row(row, chance):
+    """A row over the same book with as many things, much like this one, perhaps alike."""
+    choice = chance.randrange(5)
+    leaves = ["a", "b", "K", "Q", *row.pieces]
+
+    def grown(thing):
+        if chance.random() < 0.15:
+            return chance.choice(leaves)
+        return (thing[0], *[grown(part) for part in thing[1:]]) if isinstance(thing, tuple) else thing
+
+    if choice == 0:
+        names = chance.sample(row.names, len(row.names))
+        return row.renamed(tuple(zip(row.names, names)))
+    if choice == 1 and row.names:
+        return row.replaced(chance.choice(row.names), chance.choice(leaves))
+    if choice == 2 and len(row):
+        place = chance.randrange(len(row))
+        return Row(row.book, (*row.things[:place], chance.choice(leaves), *row.things[place + 1:]))
+    if choice == 3:
+        return Row(row.book, tuple(grown(thing) for thing in row))
+    return row
+
+
+def some_pairs(many, seed, most=4):
+    """Pairs of rows that match, about three of four of them alike, the same ones for the same seed."""
+    chance = random.Random(seed)
+    books = [STD, None, STD, AWKWARD, None]
+    rows = [some_row(books[at % 5] or some_book(chance), chance, most) for at in range(many)]
+    return [(row, changed_row(row, chance)) for row in rows]

@@ -48,6 +48,14 @@ INTERFACE = {
         "had_pieces": ("row",), "has_all": ("row", "other"),
     },
     "counting": {"how_many": ("row", "words", "size"), "things_of": ("row", "words", "size")},
+    "pictures": {"picture": ("row",), "boxes_of": ("row",), "shape_of": ("row", "thing")},
+    "comparing": {
+        "is_alike": ("one", "other"), "compare": ("one", "other"), "least_telling": ("one", "other"),
+        "compare_holds": ("one", "other", "thing"), "classes": ("rows",),
+    },
+    "whatever": {
+        "judge_name": ("row", "name"), "name_holds": ("row", "name", "thing"), "tells_nothing": ("row", "name"),
+    },
 }
 
 BUILTINS = set(
