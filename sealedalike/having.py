@@ -21,7 +21,7 @@ def basis(row):
 
 def is_had(row, thing):
     """Whether any value is a thing that can be had."""
-    return row.book.is_thing(thing) and _has_all(row, (thing,))
+    return row.book.is_thing(thing) and are_had(row, (thing,))[0]
 
 
 def judge(row, thing):
@@ -56,9 +56,7 @@ def judge_holds(row, about, thing):
 
 def had_pieces(row):
     """The ascending tuple of the pieces of the row that can be had."""
-    onlooker = Onlooker(row, row.pieces)
-    pieces = list(zip(row.pieces, onlooker.others))
-    return tuple([piece for piece, number in pieces if number in onlooker.making.made])
+    return tuple([piece for piece, had in zip(row.pieces, are_had(row, row.pieces)) if had])
 
 
 def has_all(row, other):
@@ -66,12 +64,13 @@ def has_all(row, other):
     if row.book != other.book:
         raise Mismatch("book")
     # Recipes for the other row can begin from what it shows.
-    return _has_all(row, other.things)
+    return all(are_had(row, other.things))
 
 
-def _has_all(row, things):
+def are_had(row, things):
+    """The list that tells for each of some things of the book whether it can be had."""
     onlooker = Onlooker(row, things)
-    return onlooker.making.all_made(onlooker.others)
+    return [number in onlooker.making.made for number in onlooker.others]
 
 
 def _basis(onlooker):

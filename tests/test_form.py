@@ -56,6 +56,19 @@ INTERFACE = {
     "whatever": {
         "judge_name": ("row", "name"), "name_holds": ("row", "name", "thing"), "tells_nothing": ("row", "name"),
     },
+    "slips": {"least_slips": ("row", "thing"), "least_shows": ("row", "thing"), "slips_apart": ("one", "other")},
+    "desks": {
+        "Desk": {
+            "__init__": ("self", "book"), "show": ("self", "thing"), "undo": ("self",), "redo": ("self",),
+            "gained": ("self",),
+        },
+        "Sides": {
+            "__init__": ("self", "book"), "show": ("self", "thing", "other"), "undo": ("self",), "compared": ("self",),
+            "told_at": ("self",),
+        },
+    },
+    "findings": {"finding_holds": ("thing",)},
+    "console": {"Console": {"__init__": ("self",), "run": ("self", "command")}},
 }
 
 BUILTINS = set(
