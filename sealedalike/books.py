@@ -1,8 +1,9 @@
 """Books: of which kinds things are made, and what can be got out of them."""
 
 from sealedalike.errors import BadBook, BadText, BadThing
-from sealedalike.parsing import thing_with_text
-from sealedalike.things import ascends, is_name, is_word
+from sealedalike.numbering import Table
+from sealedalike.parsing import number_with_text
+from sealedalike.things import is_word, pieces_of_kinds
 
 STANDARD_KINDS = (("half", 1), ("lock", 2), ("mark", 1), ("pair", 2), ("seal", 2), ("sign", 2))
 STANDARD_OPENINGS = (
@@ -23,9 +24,9 @@ class Book:
     """Kinds of things, and openings that give parts of them."""
 
     def __init__(self, kinds, openings):
-        if not _are_kinds(kinds):
+        if not isinstance(kinds, tuple) or len(kinds) == 0 or _right_kinds(kinds) < len(kinds):
             raise BadBook("kinds")
-        if not _are_openings(dict(kinds), openings):
+        if not isinstance(openings, tuple) or _right_openings(kinds, openings) < len(openings):
             raise BadBook("openings")
         self.kinds = kinds
         self.openings = openings
@@ -43,38 +44,24 @@ class Book:
         """The book with a text; BadText tells the first wrong line of any other value."""
         if not isinstance(text, str):
             raise BadText(0)
-        kinds = []
-        openings = []
-        for number, line in enumerate(text.split("\n"), start=1):
-            parts = [NUMERALS.get(word, word) for word in line.split(" ")]
-            if not openings and _is_kind_line(kinds, parts):
-                kinds.append(tuple(parts[1:]))
-            elif _is_opening_line(kinds, openings, parts):
-                openings.append(_opening_in(parts))
-            else:
-                raise BadText(number)
-        return cls(tuple(kinds), tuple(openings))
+        kinds, openings = _kinds_and_openings(text.split("\n"))
+        try:
+            return cls(tuple(kinds), tuple(openings))
+        except BadBook as wrong:
+            right = _right_kinds(kinds) if wrong.part == "kinds" else len(kinds) + _right_openings(kinds, openings)
+            raise BadText(1 + right) from None
 
     def is_thing(self, thing):
         """Whether any value is a thing of this book."""
-        counts = dict(self.kinds)
-        left = [thing]
-        while left:
-            piece = left.pop()
-            if isinstance(piece, tuple):
-                if not _has_all_parts(counts, piece):
-                    return False
-                left.extend(piece[1:])
-            elif not is_word(piece) and not is_name(piece):
-                return False
-        return True
+        return pieces_of_kinds(dict(self.kinds), [thing]) is not None
 
     def read_thing(self, text):
         """The thing of this book with a text; BadThing for any other value."""
-        thing = thing_with_text(dict(self.kinds), text) if isinstance(text, str) else None
-        if thing is None:
+        table = Table()
+        number = number_with_text(table, dict(self.kinds), text) if isinstance(text, str) else None
+        if number is None:
             raise BadThing(text)
-        return thing
+        return table.things_with([number])[0]
 
     def needed(self, opening, thing):
         """What must be handed in to open a thing, in order; None if an "inside" finds nothing."""
@@ -92,23 +79,28 @@ def _is_integer(value, low, high):
     return isinstance(value, int) and not isinstance(value, bool) and low <= value <= high
 
 
-def _are_kinds(kinds):
-    if not isinstance(kinds, tuple) or len(kinds) == 0:
-        return False
-    return all([_is_kind(kind) for kind in kinds]) and ascends([kind[0] for kind in kinds])
+def _right_kinds(kinds):
+    """How many of the items ahead are kinds with their numbers of parts and ascend."""
+    last = ""
+    for at, kind in enumerate(kinds):
+        if not isinstance(kind, tuple) or len(kind) != 2:
+            return at
+        word, many = kind
+        if not is_word(word) or word <= last or not _is_integer(many, 1, MOST_PARTS):
+            return at
+        last = word
+    return len(kinds)
 
 
-def _is_kind(kind):
-    if not isinstance(kind, tuple) or len(kind) != 2:
-        return False
-    return is_word(kind[0]) and _is_integer(kind[1], 1, MOST_PARTS)
-
-
-def _are_openings(counts, openings):
-    if not isinstance(openings, tuple):
-        return False
-    right = all([_is_opening(counts, opening) for opening in openings])
-    return right and ascends([opening[0] for opening in openings])
+def _right_openings(kinds, openings):
+    """How many of the items ahead are openings of a book with these kinds and ascend."""
+    counts = dict(kinds)
+    last = ""
+    for at, opening in enumerate(openings):
+        if not _is_opening(counts, opening) or opening[0] <= last:
+            return at
+        last = opening[0]
+    return len(openings)
 
 
 def _is_opening(counts, opening):
@@ -117,12 +109,15 @@ def _is_opening(counts, opening):
         return False
     word, kind, given, needs = opening
     # A list among the values cannot be looked up, so words are asked for first.
-    if not is_word(word) or word in counts or not is_word(kind) or kind not in counts:
+    if not is_word(word) or word in counts or not isinstance(kind, str) or kind not in counts:
         return False
     last = counts[kind] - 1
     if not _is_integer(given, 0, last) or not isinstance(needs, tuple) or len(needs) > MOST_NEEDS:
         return False
-    return all([_is_need(counts, last, need) for need in needs])
+    for need in needs:
+        if not _is_need(counts, last, need):
+            return False
+    return True
 
 
 def _is_need(counts, last, need):
@@ -137,14 +132,7 @@ def _is_need(counts, last, need):
 
 
 def _has_one_part(counts, kind):
-    return is_word(kind) and counts.get(kind, 0) == 1
-
-
-def _has_all_parts(counts, thing):
-    """Whether a tuple has a kind ahead and as many items behind it as this kind has parts."""
-    if len(thing) == 0 or not is_word(thing[0]) or thing[0] not in counts:
-        return False
-    return len(thing) == counts[thing[0]] + 1
+    return isinstance(kind, str) and counts.get(kind, 0) == 1
 
 
 def _needed_thing(need, thing):
@@ -164,26 +152,42 @@ def _opening_line(opening):
     return " ".join(["opening", word, kind, str(given), *told])
 
 
-def _is_kind_line(kinds, parts):
-    """Whether the parts of a line tell a kind that may stand behind these kinds."""
-    if parts[0] != "kind" or not _is_kind(tuple(parts[1:])):
-        return False
-    return not kinds or kinds[-1][0] < parts[1]
+def _kinds_and_openings(lines):
+    """The lists of the kinds and openings that lines tell, right or not; None stands for the first that tells none."""
+    kinds = []
+    openings = []
+    for line in lines:
+        words = line.split(" ")
+        if words[0] == "kind" and not openings:
+            told = _kind_in(words)
+            kinds.append(told)
+        else:
+            told = _opening_in(words)
+            openings.append(told)
+        if told is None:
+            break
+    return kinds, openings
 
 
-def _is_opening_line(kinds, openings, parts):
-    """Whether the parts of a line tell an opening that may stand behind these kinds and openings."""
-    if parts[0] != "opening" or len(parts) < 4 or not _is_opening(dict(kinds), _opening_in(parts)):
-        return False
-    return not openings or openings[-1][0] < parts[1]
+def _kind_in(words):
+    """The kind and its number of parts that the words of a line tell, right or not."""
+    return (words[1], NUMERALS.get(words[2])) if len(words) == 3 else None
 
 
-def _opening_in(parts):
-    """The opening that the parts of a line tell, right or not."""
+def _opening_in(words):
+    """The opening that the words of a line tell, right or not."""
+    if len(words) < 4 or words[0] != "opening":
+        return None
+    needs = _needs_in(words[4:]) if len(words) > 4 else ()
+    return (words[1], words[2], NUMERALS.get(words[3]), needs)
+
+
+def _needs_in(words):
+    """The tuple of the needs that the last words of a line tell, right or not."""
+    left = [NUMERALS.get(word, word) for word in words]
     needs = []
-    at = 4
-    while at < len(parts):
-        end = at + 2 if parts[at] == "part" else at + 3
-        needs.append(tuple(parts[at:end]))
-        at = end
-    return (parts[1], parts[2], parts[3], tuple(needs))
+    while left:
+        many = 2 if left[0] == "part" else 3
+        needs.append(tuple(left[:many]))
+        left = left[many:]
+    return tuple(needs)

@@ -2,12 +2,12 @@
 
 
 class Course:
-    """What steps come to at a row, one after the other: numbers of things in a table, None for those that fail."""
+    """What steps come to at a row, one after the other: numbers of things, None for those that fail."""
 
-    def __init__(self, table, row):
-        self.table = table
-        self.shown = table.numbers_of(row.things)
-        self.openings = {opening[0]: opening for opening in row.book.openings}
+    def __init__(self, seen):
+        self.table = seen.table
+        self.shown = seen.shown
+        self.openings = {opening[0]: opening for opening in seen.book.openings}
         self.came = []
 
     def take(self, step):
@@ -32,6 +32,7 @@ class Course:
         """The part that an opening gives, None if it fails."""
         _, kind, given, needs = opening
         thing = handed[0]
-        if self.table.kinds[thing] != kind or self.table.needed_at(needs, thing) != handed[1:]:
+        parts = self.table.parts[thing]
+        if not parts or self.table.forms[thing][0] != kind or self.table.needed_at(needs, thing) != handed[1:]:
             return None
-        return self.table.parts[thing][given]
+        return parts[given]

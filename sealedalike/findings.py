@@ -1,49 +1,47 @@
 """Findings: what was found of a book and of rows, which are told by their texts."""
 
 from sealedalike.books import Book
-from sealedalike.comparing import compare_holds
+from sealedalike.comparing import paper_compares
 from sealedalike.errors import BadText
-from sealedalike.having import basis, is_had, judge_holds, least_size
-from sealedalike.rows import Row
-from sealedalike.things import is_name, texts_of
-from sealedalike.whatever import tells_nothing
+from sealedalike.having import is_basis, paper_holds, size_in
+from sealedalike.numbering import Table
+from sealedalike.seen import read_seen
+from sealedalike.things import is_name
+from sealedalike.whatever import telling_thing
 
 
-def _had_holds(row, thing, recipe):
-    return row.book.is_thing(thing) and judge_holds(row, thing, ("had", recipe))
+def _had_holds(seen, thing, recipe):
+    return seen.book.is_thing(thing) and paper_holds(seen, thing, "had", recipe)
 
 
-def _kept_holds(row, thing, things):
-    return row.book.is_thing(thing) and judge_holds(row, thing, ("closed", things))
+def _kept_holds(seen, thing, things):
+    return seen.book.is_thing(thing) and paper_holds(seen, thing, "closed", things)
 
 
-def _basis_holds(row, things):
-    if not isinstance(things, tuple) or not all([row.book.is_thing(thing) for thing in things]):
-        return False
-    # By their texts, as things may nest deeper than Python compares tuples.
-    return texts_of(things) == texts_of(basis(row))
+def _basis_holds(seen, things):
+    return is_basis(seen, things)
 
 
-def _size_holds(row, thing, size):
+def _size_holds(seen, thing, size):
     if not isinstance(size, int) or isinstance(size, bool):
         return False
-    return is_had(row, thing) and least_size(row, thing) == size
+    return seen.book.is_thing(thing) and size_in(seen, thing) == size
 
 
-def _alike_holds(row, text, pairs):
-    return _paper_holds(row, text, ("alike", pairs))
+def _alike_holds(seen, text, pairs):
+    return _compares(seen, text, ("alike", pairs))
 
 
-def _comes_holds(row, text, recipe):
-    return _paper_holds(row, text, ("comes", recipe))
+def _comes_holds(seen, text, recipe):
+    return _compares(seen, text, ("comes", recipe))
 
 
-def _same_holds(row, text, recipe, other):
-    return _paper_holds(row, text, ("same", recipe, other))
+def _same_holds(seen, text, recipe, other):
+    return _compares(seen, text, ("same", recipe, other))
 
 
-def _nothing_holds(row, name):
-    return is_name(name) and tells_nothing(row, name)
+def _nothing_holds(seen, name):
+    return is_name(name) and telling_thing(seen, name) is None
 
 
 # What is asked of the parts behind the texts of the book and of the row, and how many these are.
@@ -61,29 +59,18 @@ def finding_holds(thing):
     word, book_text, row_text, *parts = thing
     if word not in HOLDS or len(parts) != PARTS[word]:
         return False
-    book = _book_with(book_text)
-    row = None if book is None else _row_with(book, row_text)
+    try:
+        seen = read_seen(Table(), Book.read(book_text), row_text)
+    except BadText:
+        return False
     holds = HOLDS[word]
-    return row is not None and holds(row, *parts)
+    return holds(seen, *parts)
 
 
-def _paper_holds(row, text, paper):
+def _compares(seen, text, paper):
     """Whether a paper about a row and another one with a text is right."""
-    other = _row_with(row.book, text)
-    return other is not None and compare_holds(row, other, paper)
-
-
-def _book_with(text):
-    """The book with a text, None if there is none."""
     try:
-        return Book.read(text)
+        other = read_seen(seen.table, seen.book, text)
     except BadText:
-        return None
-
-
-def _row_with(book, text):
-    """The row over a book with a text, None if there is none."""
-    try:
-        return Row.read(book, text)
-    except BadText:
-        return None
+        return False
+    return len(seen.shown) == len(other.shown) and paper_compares(seen, other, paper)

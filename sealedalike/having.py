@@ -1,22 +1,23 @@
 """What an onlooker can have of a row, and the papers that show it."""
 
 from sealedalike.errors import Mismatch, NotHad
-from sealedalike.least import least_recipe
-from sealedalike.numbering import Table
-from sealedalike.onlooker import Making, Onlooker
-from sealedalike.recipes import is_recipe, values_in, written_size
-from sealedalike.things import ascending, ascends, texts_of
+from sealedalike.least import least_recipe, least_size_of
+from sealedalike.onlooker import Onlooker
+from sealedalike.recipes import is_recipe_over, value_in
+from sealedalike.seen import seen_row
+from sealedalike.things import ascends
+from sealedalike.ways import Reach, Ways
 
 
 def got_things(row):
     """The tuple of the got things, in order."""
-    onlooker = Onlooker(row)
-    return tuple(onlooker.things_with(onlooker.got))
+    onlooker = Onlooker(seen_row(row))
+    return tuple(onlooker.table.things_with(onlooker.got()))
 
 
 def basis(row):
     """The ascending tuple of the basic things."""
-    return _basis(Onlooker(row))
+    return _basis(Onlooker(seen_row(row)))
 
 
 def is_had(row, thing):
@@ -26,10 +27,9 @@ def is_had(row, thing):
 
 def judge(row, thing):
     """A paper that a thing can be had, or that it can't."""
-    onlooker = Onlooker(row, (thing,))
-    if onlooker.making.all_made(onlooker.others):
-        return ("had", least_recipe(onlooker, onlooker.others[0]))
-    return ("closed", _basis(onlooker))
+    onlooker = Onlooker(seen_row(row), (thing,))
+    recipe = least_recipe(onlooker, onlooker.others[0])
+    return ("closed", _basis(onlooker)) if recipe is None else ("had", recipe)
 
 
 def recipe_for(row, thing):
@@ -42,16 +42,34 @@ def recipe_for(row, thing):
 
 def least_size(row, thing):
     """The least written-out size of a recipe; NotHad tells a paper if there is none."""
-    return written_size(recipe_for(row, thing))
+    size = size_in(seen_row(row), thing)
+    if size is None:
+        raise NotHad(judge(row, thing))
+    return size
 
 
 def judge_holds(row, about, thing):
     """Whether any value is a right paper that a thing can be had, or that it can't."""
-    if not isinstance(thing, tuple) or len(thing) != 2:
-        return False
-    if thing[0] == "had":
-        return is_recipe(row, thing[1]) and _comes_to(row, thing[1], about)
-    return thing[0] == "closed" and _is_ascending(row.book, thing[1]) and _is_closed(row, thing[1], about)
+    return isinstance(thing, tuple) and len(thing) == 2 and paper_holds(seen_row(row), about, *thing)
+
+
+def paper_holds(seen, about, word, told):
+    """Whether a word and a value behind it are a right paper of a thing, for a row by numbers."""
+    if word == "had":
+        return is_recipe_over(seen.book, len(seen.shown), told) and value_in(seen, told) == seen.table.number_of(about)
+    return word == "closed" and _is_closed(seen, about, told)
+
+
+def size_in(seen, thing):
+    """The least written-out size of a recipe for a thing of the book; None if it cannot be had of a row by numbers."""
+    onlooker = Onlooker(seen, (thing,))
+    return least_size_of(onlooker, onlooker.others[0])
+
+
+def is_basis(seen, things):
+    """Whether any value is the basis of a row by numbers."""
+    numbers = _numbers_of_any(seen, things)
+    return numbers is not None and numbers == _basis_numbers(Onlooker(seen))
 
 
 def had_pieces(row):
@@ -69,37 +87,35 @@ def has_all(row, other):
 
 def are_had(row, things):
     """The list that tells for each of some things of the book whether it can be had."""
-    onlooker = Onlooker(row, things)
-    return [number in onlooker.making.made for number in onlooker.others]
+    onlooker = Onlooker(seen_row(row), things)
+    reach = onlooker.reach()
+    return [number in reach.had for number in onlooker.others]
 
 
 def _basis(onlooker):
-    things = onlooker.things_with(onlooker.basics())
-    return ascending(things, texts_of(things))
+    return tuple(onlooker.table.things_with(_basis_numbers(onlooker)))
 
 
-def _comes_to(row, recipe, thing):
-    table = Table()
-    return values_in(table, row, recipe)[-1] == table.number_of(thing)
+def _basis_numbers(onlooker):
+    return onlooker.table.ascending(onlooker.basics(onlooker.reach()))
 
 
-def _is_ascending(book, things):
-    """Whether any value is an ascending tuple of things of a book."""
-    if not isinstance(things, tuple) or not all([book.is_thing(thing) for thing in things]):
+def _numbers_of_any(seen, things):
+    """The list of the numbers of any value that is a tuple of things of the book, None if it is none."""
+    return seen.numbers_of_any(things) if isinstance(things, tuple) else None
+
+
+def _is_closed(seen, about, things):
+    """Whether any value is a closed set: all shown things, and all that comes of it, are made of it, but not one."""
+    numbers = _numbers_of_any(seen, things)
+    if numbers is None:
         return False
-    return ascends(texts_of(things))
-
-
-def _is_closed(row, things, about):
-    """Whether things are closed: all shown ones, and all that comes of them, are made of them, but not one."""
-    table = Table()
-    numbers = table.numbers_of(things)
-    shown = table.numbers_of(row.things)
+    table = seen.table
+    texts = table.all_texts()
     goal = table.number_of(about)
-    chances = [chance for number in numbers for chance in table.chances_at(row.book, number)]
-    making = Making(table)
-    for number in numbers:
-        making.mark(number)
-    if goal in making.made or not making.all_made(shown):
+    ways = Ways(table, table.openings_at(seen.book, numbers))
+    made = Reach(ways, False)
+    made.put(numbers)
+    if not ascends([texts[number] for number in numbers]) or goal in made.had or not made.has_all(seen.shown):
         return False
-    return all([given in making.made for _, needed, given in chances if making.all_made(needed)])
+    return all([given in made.had for _, named, given in ways.openings if made.has_all(named)])

@@ -6,53 +6,60 @@ row are opened, and all that is made is a piece of the row, of what is needed, o
 
 from heapq import heappop, heappush
 
+# Stands for no way, but for a step that names no others; ahead of all ways.
+FIRST = -1
+
+
+def least_size_of(onlooker, goal):
+    """The least written-out size of a recipe for the thing with this number; None if it cannot be had."""
+    _, sizes = _least_ways(onlooker, goal)
+    return sizes.get(goal)
+
 
 def least_recipe(onlooker, goal):
-    """A recipe with the least written-out size for the thing with this number, which can be had."""
-    rules = onlooker.rules()
-    chosen, sizes = _least_rules(rules, len(onlooker.table.things))
+    """A recipe with the least written-out size for the thing with this number; None if it cannot be had."""
+    chosen, sizes = _least_ways(onlooker, goal)
+    if goal not in chosen:
+        return None
+    ways = onlooker.ways
+    first = onlooker.first_steps()
     used = {}
     left = [goal]
     while left:
         number = left.pop()
         if number not in used:
-            used[number] = True
-            left.extend(rules[chosen[number]][2])
+            used[number] = ways.named[chosen[number]] if chosen[number] != FIRST else ()
+            left.extend(used[number])
     places = {}
     steps = []
     # What a step names has a lesser size than what it comes to, so it stands ahead.
     for _, number in sorted([(sizes[number], number) for number in used]):
-        _, words, named = rules[chosen[number]]
+        numbers = tuple([places[part] for part in used[number]])
         places[number] = len(steps)
-        steps.append((*words, tuple([places[part] for part in named])) if named else words)
+        steps.append(ways.step(chosen[number], numbers) if numbers else first[number])
     return tuple(steps)
 
 
-def _least_rules(rules, many):
-    """For things with so many numbers, by number: the place of the last rule of a least recipe, and its size.
+def _least_ways(onlooker, goal):
+    """For all things up to a wanted one, by number: the last way of a least recipe, and its size.
 
-    The least size not yet known is that of the rule with the least one among those whose named
+    The least size not yet known is that of the way with the least one among those whose named
     things are all known, as no step is smaller than what it names.
     """
-    users = [[] for _ in range(many)]
-    missing = []
-    queue = []
-    for at, (_, _, named) in enumerate(rules):
-        missing.append(len(named))
-        for number in named:
-            users[number].append(at)
-        if len(named) == 0:
-            heappush(queue, (1, at))
+    ways = onlooker.ways
+    missing = list(ways.missing)
+    # In ascending order, which is one of a heap, too.
+    queue = [(1, FIRST, number) for number in sorted(onlooker.first_steps())]
     chosen = {}
     sizes = {}
-    while queue:
-        size, at = heappop(queue)
-        number = rules[at][0]
+    while queue and goal not in chosen:
+        size, way, number = heappop(queue)
         if number not in chosen:
-            chosen[number] = at
+            chosen[number] = way
             sizes[number] = size
-            for user in users[number]:
+            for user in ways.users[number]:
                 missing[user] -= 1
                 if missing[user] == 0:
-                    heappush(queue, (1 + sum([sizes[part] for part in rules[user][2]]), user))
+                    larger = 1 + sum([sizes[part] for part in ways.named[user]])
+                    heappush(queue, (larger, user, ways.gives[user]))
     return chosen, sizes

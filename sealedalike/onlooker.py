@@ -1,96 +1,75 @@
-"""Which things of a row an onlooker gets, and what is made of them, all by numbers."""
+"""What an onlooker has of a row, all by numbers."""
 
-from sealedalike.numbering import Table
 from sealedalike.things import is_name, is_word
-
-
-class Making:
-    """Which things of a table are made of the marked ones; no more things are numbered meanwhile."""
-
-    def __init__(self, table):
-        self.made = {}
-        self.missing = [len(parts) for parts in table.parts]
-        self.users = [[] for _ in table.parts]
-        for number, parts in enumerate(table.parts):
-            for part in parts:
-                self.users[part].append(number)
-        for number, thing in enumerate(table.things):
-            if is_word(thing):
-                self.mark(number)
-
-    def mark(self, number):
-        """Marks a thing, and so all things that are made now."""
-        left = [number]
-        while left:
-            made = left.pop()
-            if made not in self.made:
-                self.made[made] = True
-                for user in self.users[made]:
-                    self.missing[user] -= 1
-                    if self.missing[user] == 0:
-                        left.append(user)
-
-    def all_made(self, numbers):
-        """Whether all of these things are made."""
-        return all([number in self.made for number in numbers])
+from sealedalike.ways import Reach, Ways
 
 
 class Onlooker:
-    """What an onlooker has of a row; other things, of which may be asked, are numbered, too."""
+    """The ways to the pieces of a row, to what is needed to open them, and to other things of which is asked."""
 
-    def __init__(self, row, others=()):
-        self.table = Table()
-        self.shown = self.table.numbers_of(row.things)
-        many = len(self.table.things)
-        self.chances = [self.table.chances_at(row.book, number) for number in range(many)]
-        self.others = self.table.numbers_of(others)
-        self.making = Making(self.table)
-        self.got = {}
-        self.waiting = []
-        for number in self.shown:
-            self._get(number)
-        given = self._next_given()
-        while given is not None:
-            self._get(given)
-            given = self._next_given()
+    def __init__(self, seen, others=()):
+        self.table = seen.table
+        self.shown = seen.shown
+        openings = self.table.openings_at(seen.book, list(range(len(self.table.forms))))
+        self.others = self.table.each_number(others)
+        self.ways = Ways(self.table, openings)
 
-    def _get(self, number):
-        if number not in self.got:
-            self.got[number] = True
-            self.making.mark(number)
-            self.waiting.extend(self.chances[number])
+    def reach(self):
+        """What can be had of the row."""
+        reach = Reach(self.ways, True)
+        reach.put(self.shown)
+        return reach
 
-    def _next_given(self):
-        """The part that is got next, None if there is none."""
-        self.waiting = [chance for chance in self.waiting if chance[2] not in self.got]
-        for _, needed, given in self.waiting:
-            if self.making.all_made(needed):
-                return given
-        return None
+    def basics(self, reach):
+        """The list of the numbers of the basic things."""
+        return self.basics_among(reach, reach.had)
 
-    def things_with(self, numbers):
-        """The list of the things with these numbers."""
-        return [self.table.things[number] for number in numbers]
+    def basics_among(self, reach, numbers):
+        """The list of those of some things that are basic, all of which can be had."""
+        return [number for number in numbers if reach.missing[number] > 0 or is_name(self.table.forms[number])]
 
-    def basics(self):
-        """The list of the numbers of the basic things, in the order in which they are got."""
-        return [number for number in self.got if self._is_basic(number)]
+    def got(self):
+        """The list of the numbers of the got things, in order."""
+        openings = {}
+        for _, (number, *needed), given in self.ways.openings:
+            openings.setdefault(number, []).append((needed, given))
+        making = Reach(self.ways, False)
+        got = {}
+        waiting = []
+        following = self.shown
+        while following:
+            for number in following:
+                if number not in got:
+                    got[number] = True
+                    making.put([number])
+                    waiting.extend(openings.get(number, []))
+            waiting = [(needed, given) for needed, given in waiting if given not in got]
+            following = _first_given(making, waiting)
+        return list(got)
 
-    def _is_basic(self, number):
-        """Whether a got thing is basic."""
-        parts = self.table.parts[number]
-        return not self.making.all_made(parts) if parts else is_name(self.table.things[number])
+    def first_steps(self):
+        """The steps that name no others, by the numbers of what they come to; for each thing the first one."""
+        steps = {}
+        for at, number in enumerate(self.shown):
+            steps.setdefault(number, ("shown", at))
+        for number in self.table.words:
+            steps.setdefault(number, ("word", self.table.forms[number]))
+        return steps
 
     def rules(self):
         """What steps may come to: (number of the thing, first words of the step, numbers of the things it names)."""
-        table = self.table
         rules = [(number, ("shown", at), ()) for at, number in enumerate(self.shown)]
-        for number, thing in enumerate(table.things):
-            if is_word(thing):
-                rules.append((number, ("word", thing), ()))
-            elif table.parts[number]:
-                rules.append((number, ("make", table.kinds[number]), table.parts[number]))
-        for number, chances in enumerate(self.chances):
-            for word, needed, given in chances:
-                rules.append((given, ("open", word), (number, *needed)))
-        return rules
+        for number, (form, parts) in enumerate(zip(self.table.forms, self.table.parts)):
+            if parts:
+                rules.append((number, ("make", form[0]), parts))
+            elif is_word(form):
+                rules.append((number, ("word", form), ()))
+        return rules + [(given, ("open", word), named) for word, named, given in self.ways.openings]
+
+
+def _first_given(making, openings):
+    """A list of what is given by the first opening of some that comes by what is made, if any does."""
+    for needed, given in openings:
+        if making.has_all(needed):
+            return [given]
+    return []

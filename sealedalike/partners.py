@@ -1,24 +1,21 @@
 """Tables of pairs, by which the things of one row are carried to those of another one and back."""
 
-from sealedalike.numbering import Table
 from sealedalike.things import is_word
 
 
 def shows_alike(one, other, pairs):
-    """Whether pairs of things, none twice on the left, show that two rows that match are alike."""
-    table = Table()
-    lefts = table.numbers_of([left for left, _ in pairs])
-    rights = table.numbers_of([right for _, right in pairs])
-    shown = table.numbers_of(one.things)
-    told = table.numbers_of(other.things)
-    if len(set(rights)) < len(rights):
+    """Whether pairs of numbers, none twice on the left, show that two rows by the numbers of one table are alike."""
+    table = one.table
+    there = dict(pairs)
+    back = {right: left for left, right in pairs}
+    if len(back) < len(pairs):
         return False
     # Before any partners are looked for, as what the openings need must have its partner, too.
-    chances = {number: table.chances_at(one.book, number) for number in [*lefts, *rights]}
-    there = dict(zip(lefts, rights))
-    back = dict(zip(rights, lefts))
+    chances = {number: [] for pair in pairs for number in pair}
+    for word, (number, *needed), given in table.openings_at(one.book, list(chances)):
+        chances[number].append((word, needed, given))
     partners = _partners(table, there)
-    if [partners.get(number) for number in shown] != told:
+    if [partners.get(number) for number in one.shown] != other.shown:
         return False
     return _are_kept(table, chances, there, partners) and _are_kept(table, chances, back, _partners(table, back))
 
@@ -26,7 +23,7 @@ def shows_alike(one, other, pairs):
 def _partners(table, given):
     """The partners of all things of a table that have one, from some given ones."""
     partners = {}
-    for number in range(len(table.things)):
+    for number in range(len(table.forms)):
         partner = given[number] if number in given else _made_partner(table, partners, number)
         if partner is not None:
             partners[number] = partner
@@ -36,11 +33,11 @@ def _partners(table, given):
 def _made_partner(table, partners, number):
     """The partner that a thing has by its parts, or as a word, whatever is given; None if it has none."""
     parts = table.parts[number]
-    if is_word(table.things[number]):
+    if is_word(table.forms[number]):
         return number
     if not parts or not all([part in partners for part in parts]):
         return None
-    return table.whole(table.kinds[number], [partners[part] for part in parts])
+    return table.whole(table.forms[number][0], [partners[part] for part in parts])
 
 
 def _are_kept(table, chances, given, partners):

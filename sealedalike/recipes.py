@@ -2,8 +2,8 @@
 
 from sealedalike.course import Course
 from sealedalike.errors import BadText
-from sealedalike.numbering import Table
 from sealedalike.parsing import number_in
+from sealedalike.seen import seen_row
 from sealedalike.things import is_word
 
 MOST_NUMBERS = 3
@@ -11,19 +11,25 @@ MOST_NUMBERS = 3
 
 def is_recipe(row, thing):
     """Whether any value is a recipe for rows over the row's book with as many things."""
+    return is_recipe_over(row.book, len(row), thing)
+
+
+def is_recipe_over(book, many, thing):
+    """Whether any value is a recipe for rows over a book with so many things."""
     if not isinstance(thing, tuple) or len(thing) == 0:
         return False
-    wanted = {("make", kind): many for kind, many in row.book.kinds}
-    for opening, _, _, needs in row.book.openings:
-        wanted[("open", opening)] = 1 + len(needs)
-    return all([_is_step(wanted, len(row), at, step) for at, step in enumerate(thing)])
+    wanted = {"make": dict(book.kinds), "open": {opening: 1 + len(needs) for opening, _, _, needs in book.openings}}
+    for at, step in enumerate(thing):
+        if not _is_step(wanted, many, at, step):
+            return False
+    return True
 
 
 def value_of(row, recipe):
     """The thing to which a recipe comes, None if to nothing."""
-    table = Table()
-    number = values_in(table, row, recipe)[-1]
-    return None if number is None else table.things[number]
+    seen = seen_row(row)
+    number = value_in(seen, recipe)
+    return None if number is None else seen.table.things_with([number])[0]
 
 
 def written_size(recipe):
@@ -52,12 +58,12 @@ def read_recipe(text):
     return tuple(steps)
 
 
-def values_in(table, row, recipe):
-    """The numbers, in a table, of the things to which the steps come, None for those that fail."""
-    course = Course(table, row)
+def value_in(seen, recipe):
+    """The number of the thing to which a recipe comes at a row by numbers, None if to nothing."""
+    course = Course(seen)
     for step in recipe:
         course.take(step)
-    return course.came
+    return course.came[-1]
 
 
 def named_in(step):
@@ -80,11 +86,14 @@ def _is_step(wanted, shown, at, step):
         return is_word(step[1]) if step[0] == "word" else step[0] == "shown" and _is_index(step[1], shown)
     word, name, numbers = step
     # A list cannot be looked up, so strings are asked for first.
-    if not isinstance(word, str) or not isinstance(name, str) or (word, name) not in wanted:
+    if not isinstance(word, str) or word not in wanted or not isinstance(name, str) or not isinstance(numbers, tuple):
         return False
-    if not isinstance(numbers, tuple) or len(numbers) != wanted[(word, name)]:
+    if wanted[word].get(name) != len(numbers):
         return False
-    return all([_is_index(number, at) for number in numbers])
+    for number in numbers:
+        if not _is_index(number, at):
+            return False
+    return True
 
 
 def _step_text(step):

@@ -1,8 +1,9 @@
 """Rows: the things that an onlooker sees."""
 
-from sealedalike.errors import BadRow, BadText, BadThing, Mismatch
-from sealedalike.parsing import number_in, thing_with_text
-from sealedalike.things import all_pieces, all_texts, ascending, exchanged, is_name, texts_of
+from sealedalike.errors import BadRow, BadThing, Mismatch
+from sealedalike.numbering import Table
+from sealedalike.seen import read_seen
+from sealedalike.things import all_texts, exchanged, pieces_of_kinds, texts_of
 
 
 class Row:
@@ -11,14 +12,12 @@ class Row:
     def __init__(self, book, things):
         if not isinstance(things, tuple):
             raise BadRow("things")
-        for thing in things:
-            if not book.is_thing(thing):
-                raise BadThing(thing)
-        pieces = all_pieces(things)
+        pieces = pieces_of_kinds(dict(book.kinds), things)
+        if pieces is None:
+            raise BadThing([thing for thing in things if not book.is_thing(thing)][0])
         self.book = book
         self.things = things
-        self.names = tuple(sorted({piece for piece in pieces if is_name(piece)}))
-        self.pieces = ascending(pieces, all_texts(pieces))
+        self.names, self.pieces = _names_and_pieces(dict(zip(all_texts(pieces), pieces)))
 
     def __eq__(self, other):
         # By their texts, as things may nest deeper than Python compares tuples.
@@ -41,22 +40,13 @@ class Row:
     @classmethod
     def read(cls, book, text):
         """The row over a book with a text; BadText tells the first wrong line of any other value."""
-        if not isinstance(text, str):
-            raise BadText(0)
-        lines = text.split("\n")
-        many = _number_of_things(lines[0])
-        if many is None:
-            raise BadText(1)
-        counts = dict(book.kinds)
-        things = []
-        for number, line in enumerate(lines[1:], start=2):
-            thing = thing_with_text(counts, line)
-            if thing is None or len(things) == many:
-                raise BadText(number)
-            things.append(thing)
-        if len(things) < many:
-            raise BadText(len(lines) + 1)
-        return cls(book, tuple(things))
+        seen = read_seen(Table(), book, text)
+        things = seen.table.all_things()
+        # What was read are things of the book, so they are not looked at again.
+        row = cls(book, ())
+        row.things = tuple([things[number] for number in seen.shown])
+        row.names, row.pieces = _names_and_pieces(dict(zip(seen.table.all_texts(), things)))
+        return row
 
     def with_thing(self, thing):
         """The row with one more thing behind the others; BadThing if it is none of the book."""
@@ -78,7 +68,8 @@ class Row:
         return Row(self.book, tuple([exchanged(thing, others) for thing in self.things]))
 
 
-def _number_of_things(line):
-    """The number in the first line of a text of a row; None if this is no such line."""
-    words = line.split(" ")
-    return number_in(words[1]) if len(words) == 2 and words[0] == "row" else None
+def _names_and_pieces(by_text):
+    """The ascending tuples of the names among some things, which are told by their texts, and of all of them."""
+    texts = sorted(by_text)
+    # All texts but those of names begin with a small letter.
+    return tuple([text for text in texts if text < "a"]), tuple([by_text[text] for text in texts])

@@ -8,15 +8,16 @@ If there is no such step, the things to which the steps come are a table that sh
 from sealedalike.course import Course
 from sealedalike.onlooker import Onlooker
 from sealedalike.recipes import named_in
+from sealedalike.seen import seen_row
 
 
 class View:
     """One of the rows: what the steps come to, and the first places at which they come to it."""
 
     def __init__(self, row):
-        onlooker = Onlooker(row)
-        self.waiting = onlooker.rules()
-        self.course = Course(onlooker.table, row)
+        seen = seen_row(row)
+        self.waiting = Onlooker(seen).rules()
+        self.course = Course(seen)
         self.places = {}
 
     def next_steps(self):

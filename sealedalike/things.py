@@ -6,23 +6,19 @@ from its end.
 """
 
 LETTERS = "abcdefghijklmnopqrstuvwxyz"
-CAPITALS = "ABCDEFGHIJKLMNOPQRSTUVWXYZ"
-DIGITS = "0123456789"
 LONGEST = 8
 
 
 def is_word(thing):
     """Whether any value is a word."""
-    if not isinstance(thing, str) or not 1 <= len(thing) <= LONGEST:
-        return False
-    return all([sign in LETTERS for sign in thing])
+    return isinstance(thing, str) and len(thing) <= LONGEST and thing.isascii() and thing.isalpha() and thing.islower()
 
 
 def is_name(thing):
     """Whether any value is a name."""
-    if not isinstance(thing, str) or not 1 <= len(thing) <= LONGEST:
+    if not isinstance(thing, str) or not 1 <= len(thing) <= LONGEST or not thing.isascii() or not thing.isalnum():
         return False
-    return thing[0] in CAPITALS and all([sign in LETTERS or sign in DIGITS for sign in thing[1:]])
+    return "A" <= thing[0] <= "Z" and thing == thing.capitalize()
 
 
 def all_pieces(things):
@@ -30,14 +26,36 @@ def all_pieces(things):
 
     The parts of a piece stand side by side, and in the order of the pieces that they are parts of.
     """
-    pieces = list(things)
-    at = 0
-    while at < len(pieces):
-        piece = pieces[at]
-        if isinstance(piece, tuple):
-            pieces.extend(piece[1:])
-        at += 1
+    pieces = []
+    level = list(things)
+    while level:
+        pieces.extend(level)
+        level = [part for piece in level if isinstance(piece, tuple) for part in piece[1:]]
     return pieces
+
+
+def pieces_of_kinds(counts, things):
+    """The same list, where the kinds of things have these numbers of parts; None if a value is no such thing."""
+    pieces = []
+    leaves = {}
+    level = list(things)
+    while level:
+        pieces.extend(level)
+        following = []
+        for piece in level:
+            if isinstance(piece, str):
+                leaves[piece] = True
+            elif isinstance(piece, tuple) and _has_all_parts(counts, piece):
+                following.extend(piece[1:])
+            else:
+                return None
+        level = following
+    return pieces if all([is_word(leaf) or is_name(leaf) for leaf in leaves]) else None
+
+
+def _has_all_parts(counts, thing):
+    """Whether a tuple has a kind ahead and as many items behind it as this kind has parts."""
+    return len(thing) > 1 and isinstance(thing[0], str) and counts.get(thing[0]) == len(thing) - 1
 
 
 def all_texts(pieces):
@@ -48,8 +66,7 @@ def all_texts(pieces):
         piece = pieces[at]
         if isinstance(piece, tuple):
             begin = end - len(piece) + 1
-            inside = ",".join(texts[begin:end])
-            texts[at] = f"{piece[0]}({inside})"
+            texts[at] = f"{piece[0]}({','.join(texts[begin:end])})"
             end = begin
     return texts
 

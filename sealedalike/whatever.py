@@ -1,25 +1,19 @@
 """Whether a row tells anything of a name, whatever stands in its place."""
 
 from sealedalike.comparing import compare, compare_holds
-from sealedalike.numbering import Table
 from sealedalike.onlooker import Onlooker
-from sealedalike.pictures import picture_in
+from sealedalike.pairing import Both
+from sealedalike.seen import Seen, seen_row
 from sealedalike.things import LETTERS, names_in
 
 
 def judge_name(row, name):
     """A paper that a row tells nothing of a name, or that it tells something."""
-    if name not in row.names:
+    thing = telling_thing(seen_row(row), name)
+    if thing is None:
         return ("nothing",)
     unused = _unused("N", row.names)
-    hidden = row.replaced(name, unused)
-    table = Table()
-    seen = picture_in(table, hidden)
-    for thing in _things_to_try(row, name):
-        other = row.replaced(name, thing)
-        if picture_in(table, other) != seen:
-            return ("tells", unused, thing, compare(hidden, other))
-    return ("nothing",)
+    return ("tells", unused, thing, compare(row.replaced(name, unused), row.replaced(name, thing)))
 
 
 def name_holds(row, name, thing):
@@ -38,21 +32,74 @@ def name_holds(row, name, thing):
 
 def tells_nothing(row, name):
     """Whether a row tells nothing of a name."""
-    return judge_name(row, name)[0] == "nothing"
+    return telling_thing(seen_row(row), name) is None
 
 
-def _things_to_try(row, name):
-    """The things by which a row tells something of a name in it, if it does by any.
+def telling_thing(seen, name):
+    """A thing with which in the place of a name a row by numbers is not like the row as it is; None if there is none.
 
-    A fresh word can be had, and so can what an opening looks for inside of a thing with it. Any other
-    thing can tell more only if two pieces, or needed things, become one by it: it is one of these then.
+    The row as it is is like the row with any unused name instead. A fresh word can be had, and so can what
+    an opening looks for inside of a thing with it. Where these tell nothing, another thing can tell only if
+    by it a basic thing and another one become one.
     """
-    # The pieces of the row, and what is needed at them.
-    things = Onlooker(row).table.things
-    there = [thing for thing in things if name not in names_in(thing)]
-    word = _unused("w", things)
-    needs = [need for opening in row.book.openings for need in opening[3]]
-    return [word, *[(need[2], word) for need in needs if need[0] == "inside"], *there]
+    table = seen.table
+    if name not in table.numbers:
+        return None
+    hidden = table.numbers[name]
+    onlooker = Onlooker(seen)
+    word = table.leaf(_unused("w", table.numbers))
+    needs = [need for opening in seen.book.openings for need in opening[3]]
+    first = [word, *[table.whole(need[2], (word,)) for need in needs if need[0] == "inside"]]
+    telling = _first_telling(seen, hidden, first)
+    if telling is None:
+        telling = _first_telling(seen, hidden, _merging_numbers(onlooker, hidden))
+    return None if telling is None else table.things_with([telling])[0]
+
+
+def _first_telling(seen, hidden, numbers):
+    """The first of some things with which in the place of a hidden name a row is unlike itself, None if none is."""
+    for number in numbers:
+        other = Seen(seen.book, seen.table, seen.table.exchanged(seen.shown, hidden, number))
+        if not Both(seen, other).are_alike():
+            return number
+    return None
+
+
+def _merging_numbers(onlooker, hidden):
+    """What makes a basic thing and a piece of the row, or a needed thing, one in the place of a hidden name."""
+    table = onlooker.table
+    # Other things than these have been numbered since.
+    many = onlooker.ways.makes
+    changed = {hidden: True}
+    for number in range(many):
+        if any([part in changed for part in table.parts[number]]):
+            changed[number] = True
+    found = {}
+    for basic in onlooker.basics(onlooker.reach()):
+        for number in range(many):
+            if table.parts[number] and (number in changed or basic in changed):
+                found[_merging(table, hidden, basic, number)] = True
+    return [number for number in range(many) if number in found and number not in changed]
+
+
+def _merging(table, hidden, one, other):
+    """The number of what makes two things one in the place of a hidden name; None if nothing does."""
+    found = None
+    left = [(one, other)]
+    while left:
+        pair = left.pop()
+        one, other = pair
+        if one != other and hidden in pair:
+            thing = other if one == hidden else one
+            if found not in (None, thing):
+                return None
+            found = thing
+        elif one != other:
+            parts = table.parts[one]
+            if not parts or not table.parts[other] or table.forms[one][0] != table.forms[other][0]:
+                return None
+            left.extend(list(zip(parts, table.parts[other])))
+    return found
 
 
 def _unused(begin, used):

@@ -3,7 +3,7 @@ import unittest
 from itertools import combinations
 
 from sealedalike.books import Book, standard_book
-from sealedalike.comparing import classes, compare, compare_holds, is_alike, least_telling
+from sealedalike.comparing import both_rows, classes, compare, compare_holds, is_alike, least_telling
 from sealedalike.errors import Mismatch
 from sealedalike.recipes import is_recipe
 from sealedalike.rows import Row
@@ -223,6 +223,84 @@ class LeastTelling(unittest.TestCase):
         self.assertEqual(least_telling(one, std(*names[:7], "A")), ((0, 7),))
         self.assertEqual(least_telling(one, std(*"AACDEFGG")), ((0, 1), (6, 7)))
         self.assertEqual(len(least_telling(one, std(*"AAAAAAAA"))), 28)
+
+    def test_eight_things_that_are_all_needed(self):
+        chain = ("A", ("lock", "B", "A"), ("lock", "C", "B"), ("lock", "D", "C"), ("lock", "E", "D"), ("lock", "F", "E"),
+                 ("lock", "G", "F"))
+        one, other = std(*chain, ("lock", "a", "G")), std(*chain, ("lock", "b", "G"))
+        self.assertEqual(least_telling(one, other), ((0, 1, 2, 3, 4, 5, 6, 7),))
+        self.assertEqual(least_telling(other, one), ((0, 1, 2, 3, 4, 5, 6, 7),))
+        self.assertEqual(least_telling(one, one), ())
+        # In whatever order they are shown.
+        one, other = std(*one.things[::-1]), std(*other.things[::-1])
+        self.assertEqual(least_telling(one, other), ((0, 1, 2, 3, 4, 5, 6, 7),))
+
+    def test_chains_of_keys(self):
+        names = "ABCDEFGH"
+        for many in range(1, 9):
+            chain = ["A", *[("lock", names[at + 1], names[at]) for at in range(many - 1)]]
+            one, other = std(*chain[:-1], ("lock", "a", names[many - 2])), std(*chain[:-1], ("lock", "b", names[many - 2]))
+            if many > 1:
+                self.assertEqual(least_telling(one, other), (tuple(range(many)),))
+            self.assertEqual(least_telling(std(*chain), std(*chain)), ())
+
+    def test_several_ways_to_a_key(self):
+        ways = ["K", "K", ("lock", "K", "L"), ("seal", "K", ("half", "S")), "L", "S"]
+        one, other = std(*ways, ("lock", "a", "K"), "M"), std(*ways, ("lock", "b", "K"), "M")
+        self.assertEqual(least_telling(one, other), ((0, 6), (1, 6), (2, 4, 6), (3, 5, 6)))
+        ends = [("lock", "K", "L"), ("lock", "L", "M"), "M"]
+        one = std(*ends, ("lock", "a", "K"), *ends, ("lock", "a", "K"))
+        other = std(*ends, ("lock", "b", "K"), *ends, ("lock", "b", "K"))
+        self.assertEqual(len(least_telling(one, other)), 16)
+        self.assertEqual(least_telling(one, other)[0], (0, 1, 2, 3))
+        self.assertEqual(least_telling(one, other)[-1], (4, 5, 6, 7))
+
+    def test_eight_things_against_likeness(self):
+        chance = random.Random(227)
+        several = 0
+        for at in range(60):
+            row = some_row([STD, AWKWARD, some_book(chance)][at % 3], chance, 5)
+            row = Row(row.book, (*row.things, *chance.choices(row.pieces or ("K",), k=8))[:8])
+            other = changed_row(row, chance)
+            telling = []
+            for many in range(9):
+                for places in combinations(range(8), many):
+                    if not any(set(part) <= set(places) for part in telling):
+                        if not is_alike(row.only(places), other.only(places)):
+                            telling.append(places)
+            self.assertEqual(least_telling(row, other), tuple(sorted(telling)), (str(row.book), row.things, other.things))
+            several += len(telling) > 1
+        self.assertGreater(several, 15)
+
+
+class SideBySide(unittest.TestCase):
+    def test_how_many_things_tell(self):
+        chance = random.Random(228)
+        answers = []
+        for one, other in some_pairs(250, 229, 5):
+            both = both_rows(one, other)
+            wanted = [
+                many for many in range(1, len(one) + 1)
+                if plain_alike.picture(one.only(range(many))) != plain_alike.picture(other.only(range(many)))
+            ]
+            answers.append(both.pairing().told_at(both.shown))
+            self.assertEqual(answers[-1], wanted[0] if wanted else None, (str(one.book), one.things, other.things))
+            self.assertIs(both.are_alike(), not wanted)
+            # In another order fewer or more of them may tell, but all of them tell the same.
+            turned = both.pairing().told_at(chance.sample(both.shown, len(both.shown)))
+            self.assertEqual(turned is None, not wanted)
+        self.assertTrue(answers.count(None) > 60 and answers.count(1) > 20 and len(set(answers)) > 3)
+
+    def test_a_pairing_again(self):
+        one, other = std(("lock", "a", "K"), "K"), std(("lock", "b", "K"), "K")
+        both = both_rows(one, other)
+        words = both.pairing()
+        for _ in range(3):
+            self.assertEqual(words.again().told_at(both.shown), 2)
+            self.assertEqual(words.again().told_at(both.shown[::-1]), 2)
+            self.assertIsNone(words.again().told_at(both.shown[:1]))
+            self.assertIsNone(words.again().told_at(both.shown[1:]))
+            self.assertIsNone(words.again().told_at([]))
 
 
 class Classes(unittest.TestCase):

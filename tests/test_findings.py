@@ -161,6 +161,33 @@ class Findings(unittest.TestCase):
         ):
             self.holds(("nothing", STD_TEXT, text, name), wanted)
 
+    def test_eight_things(self):
+        names = "ABCDEFG"
+        things = ["A", *[("lock", key, other) for other, key in zip(names, names[1:])], ("lock", "a", "G")]
+        row = Row(STD, tuple(things))
+        text = "row 8\nA\nlock(B,A)\nlock(C,B)\nlock(D,C)\nlock(E,D)\nlock(F,E)\nlock(G,F)\nlock(a,G)"
+        steps = [("shown", at) for at in range(7)] + [("open", "open", (1, 0))]
+        steps += [("open", "open", (at, at + 5)) for at in range(2, 7)]
+        self.assertEqual(str(row), text)
+        self.holds(("had", STD_TEXT, text, "G", tuple(steps)), True)
+        self.holds(("had", STD_TEXT, text, "F", tuple(steps)), False)
+        self.holds(("had", STD_TEXT, text, "F", tuple(steps[:-1])), True)
+        self.holds(("basis", STD_TEXT, text, tuple(names)), True)
+        self.holds(("basis", STD_TEXT, text, tuple(names[:-1])), False)
+        self.holds(("kept", STD_TEXT, text, "H", tuple(names)), True)
+        self.holds(("kept", STD_TEXT, text, "H", tuple("ABCDEF")), False)
+        self.holds(("kept", STD_TEXT, text, "G", tuple(names)), False)
+        for at, name in enumerate(names):
+            self.holds(("size", STD_TEXT, text, name, 2 * at + 1), True)
+            self.holds(("size", STD_TEXT, text, name, 2 * at + 2), False)
+            self.holds(("nothing", STD_TEXT, text, name), False)
+            without = text.replace("row 8\nA\n", "row 7\n")
+            self.holds(("nothing", STD_TEXT, without, name), False)
+            self.holds(("size", STD_TEXT, without, name, 2 * at + 1), False)
+        self.holds(("nothing", STD_TEXT, text, "H"), True)
+        self.holds(("nothing", STD_TEXT, text.replace("lock(a", "lock(H"), "H"), False)
+        self.holds(("nothing", STD_TEXT, without.replace("lock(a", "lock(H"), "H"), True)
+
     def test_deep_things(self):
         deep = nested(900, "K", lambda inner: ("half", inner))
         row = Row(STD, (("half", deep), "M"))

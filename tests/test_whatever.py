@@ -150,6 +150,27 @@ class Judge(unittest.TestCase):
                         self.assertEqual(told, wanted, (str(book), row.things, name, thing))
         self.assertTrue(words.count("tells") > 200 and words.count("nothing") > 30, words.count("nothing"))
 
+    def test_as_by_all_pieces_and_needed_things(self):
+        # Only some of these are put in by the program; by the others a row must not tell anything.
+        chance = random.Random(259)
+        found = []
+        for _ in range(500):
+            book = some_book(chance)
+            leaves = ["X", "X", "K", "S", "L", "a"][:chance.randrange(3, 7)]
+            things = things_over(book, leaves, 2, 12, chance)
+            row = Row(book, tuple(chance.sample(things[len(leaves):], chance.randrange(1, 4))))
+            wanted = plain_alike.picture(row.replaced("X", "Q"))
+            needed = [key for piece in row.pieces for _, keys, _ in plain.openings_at(book, piece) for key in keys]
+            there = [thing for thing in dict.fromkeys([*row.pieces, *needed]) if "X" not in plain.pieces(thing)]
+            fresh = ["word", *[(kind, "word") for kind, many in book.kinds if many == 1]]
+            tells = [
+                [thing for thing in some if plain_alike.picture(row.replaced("X", thing)) != wanted]
+                for some in (fresh, there)
+            ]
+            self.assertIs(tells_nothing(row, "X"), tells == [[], []], (str(book), row.things))
+            found.append((tells[0] == [], tells[1] == []))
+        self.assertTrue(found.count((True, True)) > 50 and found.count((True, False)) > 1, found.count((True, False)))
+
     def test_all_small_things_at_small_rows(self):
         chance = random.Random(252)
         for row in NOTHING:
