@@ -42,7 +42,7 @@ def pieces_of_kinds(counts, things):
     while level:
         pieces.extend(level)
         following = []
-        for piece in level:
+        for piece in list(level):
             if isinstance(piece, str):
                 leaves[piece] = True
             elif isinstance(piece, tuple) and _has_all_parts(counts, piece):

@@ -83,6 +83,10 @@ BARRED = re.compile(
     r"\b(typing|typing_extensions|enum|Enum|IntEnum|StrEnum|Flag|IntFlag|Generic|Protocol|ABC|ABCMeta|namedtuple"
     r"|NamedTuple|TypedDict|TYPE_CHECKING|abstractmethod)\b|dataclass|overload|contextmanager|_WallAttr|\b_wall"
 )
+CHANGING = set("append clear extend insert pop remove reverse setdefault update sort add discard".split())
+HEAPS = {"heappush", "heappop", "heapify", "heapreplace", "heappushpop"}
+VIEWS = {"items", "keys", "values"}
+WALKS = {"enumerate", "zip", "reversed"}
 STATEMENTS = (
     ast.AsyncFunctionDef, ast.AsyncFor, ast.AsyncWith, ast.Await, ast.Global, ast.Import, ast.TryStar,
 )
@@ -90,6 +94,78 @@ STATEMENTS = (
 
 def arguments(function):
     return tuple(argument.arg for argument in function.args.args)
+
+
+def walked(node):
+    """The names and attributes that a loop over a value walks, as they stand there; a copy is none of them."""
+    if isinstance(node, (ast.Name, ast.Attribute)):
+        return [ast.unparse(node)]
+    if isinstance(node, ast.IfExp):
+        return walked(node.body) + walked(node.orelse)
+    if isinstance(node, ast.BoolOp):
+        return [text for value in node.values for text in walked(value)]
+    if isinstance(node, ast.Call) and isinstance(node.func, ast.Name) and node.func.id in WALKS:
+        return [text for value in node.args for text in walked(value)]
+    if isinstance(node, ast.Call) and isinstance(node.func, ast.Attribute) and node.func.attr in VIEWS:
+        return walked(node.func.value)
+    return []
+
+
+def assigned_pairs(target, value):
+    """The pairs (target, value) that an assignment gives one by one."""
+    if isinstance(target, ast.Tuple) and isinstance(value, ast.Tuple) and len(target.elts) == len(value.elts):
+        return [pair for two in zip(target.elts, value.elts) for pair in assigned_pairs(*two)]
+    return [(target, value)]
+
+
+def spoken_alike(function, last):
+    """A dict from names and attributes of a function to the sets of all that may speak of the same list.
+
+    What is assigned behind the last line does not count.
+    """
+    groups = {}
+    for node in ast.walk(function):
+        for target in node.targets if isinstance(node, ast.Assign) and node.lineno <= last else ():
+            for left, right in assigned_pairs(target, node.value):
+                if isinstance(left, (ast.Name, ast.Attribute)):
+                    texts = [ast.unparse(left), *walked(right)]
+                    group = set().union(*[groups.get(text, {text}) for text in texts])
+                    groups.update({text: group for text in group})
+    return groups
+
+
+def changed_by(node):
+    """The names and attributes whose list or dict a single node of a tree changes, as they stand there."""
+    if isinstance(node, ast.Call) and isinstance(node.func, ast.Attribute) and node.func.attr in CHANGING:
+        return [ast.unparse(node.func.value)]
+    if isinstance(node, ast.Call) and isinstance(node.func, ast.Name) and node.func.id in HEAPS:
+        return [ast.unparse(node.args[0])]
+    if isinstance(node, ast.AugAssign):
+        return [ast.unparse(node.target)]
+    if isinstance(node, ast.Subscript) and not isinstance(node.ctx, ast.Load):
+        return [ast.unparse(node.value)]
+    return []
+
+
+def loops_changing_what_they_walk(tree):
+    """The lines of the loops and comprehensions in which something changes that they may walk."""
+    lines = []
+    for function in [node for node in ast.walk(tree) if isinstance(node, ast.FunctionDef)]:
+        around = [node for node in ast.walk(function) if isinstance(node, (ast.For, ast.While))]
+        for loop in ast.walk(function):
+            if isinstance(loop, ast.For):
+                heads, body = [loop.iter], loop.body
+            elif isinstance(loop, (ast.ListComp, ast.SetComp, ast.DictComp, ast.GeneratorExp)):
+                heads, body = [part.iter for part in loop.generators], [loop]
+            else:
+                continue
+            # What is assigned behind a loop reaches it only if both stand in another loop.
+            last = max([loop.end_lineno, *[node.end_lineno for node in around if loop in ast.walk(node)]])
+            groups = spoken_alike(function, last)
+            changed = {text for part in body for node in ast.walk(part) for text in changed_by(node)}
+            if any(changed & groups.get(text, {text}) for head in heads for text in walked(head)):
+                lines.append(loop.lineno)
+    return lines
 
 
 class Form(unittest.TestCase):
@@ -166,6 +242,37 @@ class Form(unittest.TestCase):
             if isinstance(node, (ast.FunctionDef, ast.ClassDef)):
                 for decorator in node.decorator_list:
                     self.assertIn(getattr(decorator, "id", ""), ("classmethod", "staticmethod", "property"), place)
+
+    def test_loops_do_not_change_what_they_walk(self):
+        for path, tree in TREES.items():
+            self.assertEqual(loops_changing_what_they_walk(tree), [], path)
+
+    def test_loops_that_change_what_they_walk_are_found(self):
+        ways = {
+            "for x in a:\n  a.append(x)": True,
+            "for x in list(a):\n  a.append(x)": False,
+            "for x in a:\n  b.append(x)": False,
+            "for x in a:\n  b.append(x)\n a = b": False,
+            "a = b\n for x in a:\n  b.append(x)": True,
+            "a = list(b)\n for x in a:\n  b.append(x)": False,
+            "while a:\n  for x in a:\n   b.append(x)\n  a = b": True,
+            "while a:\n  for x in list(a):\n   b.append(x)\n  a = b": False,
+            "while a:\n  for x in a:\n   b.append(x)\n  a = list(b)": False,
+            "while a:\n  for x in a:\n   c.append(x)\n  a = b\n  b = c": True,
+            "while a:\n  for x in a:\n   c.append(x)\n  a, b = c, d": True,
+            "while a:\n  for x in a:\n   b.append(x)\n  a = b if c else d": True,
+            "for x in a.b:\n  for y in a.c:\n   d.append(y)\n  a.c = d": True,
+            "for x in enumerate(a):\n  a[0] = 1": True,
+            "for x in a.items():\n  del a[x]": True,
+            "for x in a.b:\n  a.b += [x]": True,
+            "for x in a.b:\n  a.c.extend([x])": False,
+            "for x in a or b:\n  heappush(b, x)": True,
+            "return [a.pop() for x in a]": True,
+            "return [b.pop() for x in a]": False,
+        }
+        for rows, found in ways.items():
+            tree = ast.parse(f"def tried(a, b, c, d):\n {rows}")
+            self.assertEqual(loops_changing_what_they_walk(tree) != [], found, rows)
 
     def test_names(self):
         for path, node in self.each_node():
